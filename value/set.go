@@ -24,7 +24,7 @@ func SetOf(l []api.Value) api.Value {
 	return api.Value{Kind: api.Set, S: strings.Join(texts, comma)}
 }
 
-// members is those of l that a set may have, each once; false: they are too long for one. Of a list of very many, most are never looked at, since those that fit are few.
+// members is those of l that a set may have, each once; false: they are too long for one. Few fit, so that a list of very many unlike ones is not gone through to its end.
 func members(l []api.Value) ([]api.Value, bool) {
 	var own []api.Value
 	seen := make(map[api.Value]int)
