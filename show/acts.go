@@ -37,7 +37,9 @@ func (w *writer) fills(l ...api.Fill) {
 	}
 }
 
-func (w *writer) exprs(l ...api.Expr) { nested(l, parts, w.openExpr, w.shutExpr) }
+func (w *writer) exprs(l ...api.Expr) {
+	nested(l, ending(l, parts, (*writer).openExpr), w.openExpr, w.shutExpr)
+}
 
 // parts is the expressions that stand in another one.
 func parts(e api.Expr) []api.Expr {

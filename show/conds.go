@@ -2,7 +2,9 @@ package show
 
 import "tribunal/api"
 
-func (w *writer) conds(l ...api.Cond) { nested(l, over, w.openCond, w.shutCond) }
+func (w *writer) conds(l ...api.Cond) {
+	nested(l, ending(l, over, (*writer).openCond), w.openCond, w.shutCond)
+}
 
 // over is the conditions that stand in another one.
 func over(c api.Cond) []api.Cond {

@@ -19,26 +19,3 @@ func nested[T any](l []T, in func(T) []T, ahead, behind func(T)) {
 		begun = begun[:top]
 	}
 }
-
-// pair is two lists that are to be the same.
-type pair[T any] struct{ a, b []T }
-
-// alike tells whether two lists are the same, and so what is in each of them, however deep; same tells it of two, but for those in them.
-func alike[T any](a, b []T, in func(T) []T, same func(a, b T) bool) bool {
-	for left := []pair[T]{{a, b}}; len(left) > 0; {
-		last := left[len(left)-1]
-		left = left[:len(left)-1]
-		if len(last.a) != len(last.b) {
-			return false
-		}
-		for i, one := range last.a {
-			if !same(one, last.b[i]) {
-				return false
-			}
-			if inner := (pair[T]{in(one), in(last.b[i])}); len(inner.a)+len(inner.b) > 0 {
-				left = append(left, inner)
-			}
-		}
-	}
-	return true
-}
